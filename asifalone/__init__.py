@@ -1,0 +1,1 @@
+"""Asifalone: the least level at which each dealing is as if alone."""

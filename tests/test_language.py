@@ -1,4 +1,4 @@
-"""Of the rules for the program's files, those that can be seen in a file alone."""
+"""Some of the rules for the program's files: sizes, signs, words, imports, names. The others are not tested here."""
 
 import ast
 import os

@@ -1,6 +1,6 @@
 """Boxes, steps, dealings and levels: what they are, and how a dealing is written."""
 
-from asifalone.errors import NoDealing, NoDealings, NoText
+from asifalone.errors import NoDealing, NoDealings, NoLevels, NoNumber, NoText
 
 MOST_BOX = 10 ** 8
 MOST_FIGURES = 9
@@ -78,6 +78,18 @@ def check_dealings(thing):
     """Refuses what is no list of dealings."""
     if not are_dealings(thing):
         raise NoDealings("no list of one to a hundred dealings")
+
+
+def check_levels(thing, many):
+    """Refuses what is no list of just so many levels."""
+    if not are_levels(thing, many):
+        raise NoLevels("no list of one level for each dealing")
+
+
+def check_number(thing, many):
+    """Refuses what is none of so many numbers from 0 on."""
+    if not is_number(thing, many):
+        raise NoNumber("none of the numbers of the dealings")
 
 
 def boxes_of(dealing, asked):

@@ -24,6 +24,13 @@ def weaving_fault(dealings, thing):
     return None
 
 
+def check_weaving(dealings, thing):
+    """Refuses what is no weaving of the dealings."""
+    place = weaving_fault(dealings, thing)
+    if place is not None:
+        raise NoWeaving(place)
+
+
 def is_order(dealings, thing):
     """Whether this is a list of all numbers of the dealings, each once."""
     many = len(dealings)
@@ -87,9 +94,7 @@ def weaving_at(dealings, number):
 
 def number_of(dealings, weaving):
     """The number of this weaving, as lists go."""
-    place = weaving_fault(dealings, weaving)
-    if place is not None:
-        raise NoWeaving(place)
+    check_weaving(dealings, weaving)
     left = turns_of(dealings)
     total = how_many(dealings)
     number = 0

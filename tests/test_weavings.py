@@ -6,7 +6,7 @@ import itertools
 import math
 import unittest
 
-from anything import Hostile, full_set, no_dealings, small_sets, steps, things
+from anything import Hostile, all_weavings, full_set, no_dealings, small_sets, steps, things
 from asifalone import weavings
 from asifalone.errors import NoDealings, NoNumber, NoOrder, NoWeaving
 from asifalone.weavings import how_many, number_of, one_by_one, weaving_at, weaving_fault
@@ -15,23 +15,6 @@ from asifalone.weavings import how_many, number_of, one_by_one, weaving_at, weav
 def turns(dealings):
     """The numbers that stand in each weaving, rising."""
     return [number for number, dealing in enumerate(dealings) for step in range(len(dealing) + 1)]
-
-
-def lists_of(left):
-    """All lists in which each number stands as often as left says, in the order of lists."""
-    if not any(left):
-        return [[]]
-    told = []
-    for number, times in enumerate(left):
-        if times:
-            rest = left[:number] + [times - 1] + left[number + 1:]
-            told.extend([number] + row for row in lists_of(rest))
-    return told
-
-
-def all_weavings(dealings):
-    """All weavings, in the order of lists, without the program's help."""
-    return lists_of([len(dealing) + 1 for dealing in dealings])
 
 
 def full_weavings():

@@ -83,13 +83,13 @@ def check_dealings(thing):
 def check_levels(thing, many):
     """Refuses what is no list of just so many levels."""
     if not are_levels(thing, many):
-        raise NoLevels("no list of one level for each dealing")
+        raise NoLevels("no list of just so many levels")
 
 
 def check_number(thing, many):
     """Refuses what is none of so many numbers from 0 on."""
     if not is_number(thing, many):
-        raise NoNumber("none of the numbers of the dealings")
+        raise NoNumber("none of the numbers that there are")
 
 
 def boxes_of(dealing, asked):

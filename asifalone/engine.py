@@ -4,7 +4,7 @@ NOBODY = -1
 
 
 class Engine:
-    """What a store holds behind the deeds done so far, each of which has a moment of its own."""
+    """What a store holds behind the deeds done so far, each of which has a moment of its own, counted from 0 on."""
 
     def __init__(self, levels):
         self.strictness = list(levels)
@@ -22,6 +22,12 @@ class Engine:
         self.looks = []
         # The whole ones that may still be the y of a chain: they missed a version of a whole one that ended ahead.
         self.middles = {}
+
+    def admit(self, level):
+        """Takes in one more, at this level; it begins with its first deed."""
+        self.strictness.append(level)
+        self.drafts.append([])
+        self.views.append({})
 
     def kept(self, box):
         """The versions of a box, the eldest first."""
@@ -123,6 +129,13 @@ class Engine:
             self.take_write(number, step[1])
         else:
             self.take_read(number, step[1])
+        self.moment += 1
+
+    def give_up(self, number):
+        """Gives one up that isn't ended: what it wrote was never written."""
+        for box in self.drafts[number]:
+            del self.holders[box]
+        self.drafts[number] = []
         self.moment += 1
 
 

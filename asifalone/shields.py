@@ -15,11 +15,8 @@ def part_from(crowd, start, within):
     return part
 
 
-def shield(dealings, number):
+def finest_parts(crowd, number):
     """The shield of this one that has most parts."""
-    check_dealings(dealings)
-    check_number(number, len(dealings))
-    crowd = Crowd(dealings)
     left = aside_of(crowd, number)
     parts = []
     while left:
@@ -27,6 +24,13 @@ def shield(dealings, number):
         parts.append(numbers_in(part))
         left &= ~part
     return parts
+
+
+def shield(dealings, number):
+    """The shield of this one that has most parts."""
+    check_dealings(dealings)
+    check_number(number, len(dealings))
+    return finest_parts(Crowd(dealings), number)
 
 
 def has_shield_form(crowd, number, thing):
@@ -74,13 +78,9 @@ def is_led(crowd, gap, parts, bars):
     return False
 
 
-def shield_fault(dealings, levels, number, thing):
+def parts_fault(crowd, levels, number, thing):
     """None where this is a shield of this one without fault at these levels; else "form", "lacks", or the place
     of the first read at which two lead to one another."""
-    check_dealings(dealings)
-    check_levels(levels, len(dealings))
-    check_number(number, len(dealings))
-    crowd = Crowd(dealings)
     if not has_shield_form(crowd, number, thing):
         return "form"
     parts = [bits_of(part) for part in thing]
@@ -91,3 +91,12 @@ def shield_fault(dealings, levels, number, thing):
         if is_led(crowd, gap, parts, bars):
             return gap[0]
     return None
+
+
+def shield_fault(dealings, levels, number, thing):
+    """None where this is a shield of this one without fault at these levels; else "form", "lacks", or the place
+    of the first read at which two lead to one another."""
+    check_dealings(dealings)
+    check_levels(levels, len(dealings))
+    check_number(number, len(dealings))
+    return parts_fault(Crowd(dealings), levels, number, thing)

@@ -312,3 +312,45 @@ def plain_cut_fault(dealings, levels, one, at, row):
 def right_cuts(dealings, levels):
     """All cuts without fault at these levels, as tuples (one, at, row)."""
     return [cut for cut in all_cuts(dealings) if plain_cut_fault(dealings, levels, *cut) is None]
+
+
+def program(text):
+    """A program, written shortly: the tables of its keys as figures, then steps on boxes (b) and keys (k)."""
+    words = text.split()
+    tables = words.pop(0) if words[0].isdigit() else ""
+    kinds = {"b": "box", "k": "key"}
+    names = {"r": "read", "w": "write"}
+    rows = [(names[word[0]], (kinds[word[1]], int(word[2:]))) for word in words]
+    return tuple(int(figure) for figure in tables), tuple(rows)
+
+
+def no_programs():
+    """What is no list of programs: things of any kind, and lists with one fault."""
+    one = program("1 rk0 wk0")
+    return things() + [
+        [], one, (one,), [one] * 5, [list(one)], [one, None], [None, one], [one, ()], [one, Hostile()], [[one]], [one, [one]],
+        [one, program("1 wk0 rk0")], [one, program("1 rb5")], [one, ((1,), ())], [((True,), one[1])], [((10,), one[1])],
+        [one, ((), (("read", ("box", 10 ** 6)),))], [one, ((), (("read", ("box", True)),))], {0: one}, {one}, iter([one]),
+        [steps("r1 w1")], [((1,), [("read", ("key", 0))])], [([1], one[1])],
+    ]
+
+
+def random_program(chance, tables, most, boxes):
+    """A program of at most so many keys and steps, on tables and boxes from 1 and 0 on, by a seeded source of chance."""
+    while True:
+        keys = tuple(chance.randint(1, tables) for place in range(chance.randint(0, 3)))
+        slots = [("key", place) for place in range(len(keys))] + [("box", box) for box in range(boxes)]
+        told = []
+        for turn in range(chance.randint(1, most) if slots else 0):
+            step = (chance.choice(("read", "write")), chance.choice(slots))
+            if step not in told and ("write", step[1]) not in told:
+                told.append(step)
+        if told and all(any(slot == ("key", place) for word, slot in told) for place in range(len(keys))):
+            return keys, tuple(told)
+
+
+def random_programs(seed, times, sizes, tables, most, boxes=2):
+    """So many lists of programs, of as many programs each as one of the sizes."""
+    chance = random.Random(seed)
+    for turn in range(times):
+        yield [random_program(chance, tables, most, boxes) for number in range(chance.choice(sizes))]

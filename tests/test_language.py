@@ -1,11 +1,13 @@
-"""Some of the rules for the program's files: sizes, signs, words, imports, names, builtins, classes, comparisons.
-The others are not tested here."""
+"""Rules for the program's files: sizes, signs, words, imports, names, builtins, classes, comparisons, loops, sets,
+calls, texts. Where a rule allows what the program does without, the tests bar it wholly; what only a reader can see is
+not tested here."""
 
 import ast
 import builtins
 import os
 import re
 import unittest
+import warnings
 
 PACKAGE = os.path.join(os.path.dirname(os.path.dirname(os.path.abspath(__file__))), "asifalone")
 
@@ -32,6 +34,32 @@ SPECIAL = {"__init__", "__eq__", "__str__"}
 CHANGING = (ast.Assign, ast.AugAssign, ast.AnnAssign, ast.Delete, ast.NamedExpr)
 
 TAKE_LISTS = {"any", "all", "min", "max", "sum", "sorted"}
+
+AT_ONCE = {"zip", "enumerate", "reversed", "range"}
+
+# What may go over such a thing, beside a loop or a comprehension.
+GOES_OVER = {"list", "tuple", "dict", "sorted", "sum", "any", "all", "enumerate", "zip"}
+
+KEYWORDS = {
+    "sorted": {"key", "reverse"}, "min": {"key", "default"}, "max": {"key", "default"}, "sum": {"start"},
+    "enumerate": {"start"}, "zip": {"strict"},
+}
+
+NOWHERE = set(
+    "register mro elements open input law version_info with_traceback add_note format format_map attrgetter breakpoint"
+    " compile copyright credits delattr dir eval exec exit gc getattr globals hasattr help id importlib license locals"
+    " methodcaller os quit setattr type vars sys".split()
+)
+
+
+def parents_of(tree):
+    """For each part of a tree the one that it stands in."""
+    return {part: row for row in ast.walk(tree) for part in ast.iter_child_nodes(row)}
+
+
+def called(row):
+    """The name that is called, where it is a plain one."""
+    return row.func.id if isinstance(row, ast.Call) and isinstance(row.func, ast.Name) else None
 
 
 def files():
@@ -199,6 +227,140 @@ class Language(unittest.TestCase):
                     self.assertNotIsInstance(row.value, (float, complex), name)
                 if isinstance(row, ast.Call) and isinstance(row.func, ast.Name) and row.func.id in TAKE_LISTS:
                     self.assertEqual([given for given in row.args if isinstance(given, ast.GeneratorExp)], [], name)
+
+    def test_module_values_are_plain_and_bound_once(self):
+        plain = (ast.Constant, ast.Tuple, ast.Dict, ast.List, ast.BinOp, ast.UnaryOp, ast.operator, ast.unaryop, ast.Load)
+        for name, text, tree in files():
+            bound = []
+            for row in tree.body:
+                if isinstance(row, ast.Assign):
+                    self.assertEqual([type(target) for target in row.targets], [ast.Name], (name, row.lineno))
+                    bound.append(row.targets[0].id)
+                    for part in ast.walk(row.value):
+                        self.assertIsInstance(part, plain, (name, row.lineno))
+                    for part in getattr(row.value, "elts", getattr(row.value, "values", [])):
+                        self.assertNotIsInstance(part, (ast.List, ast.Dict), (name, row.lineno))
+                elif isinstance(row, (ast.FunctionDef, ast.ClassDef)):
+                    bound.append(row.name)
+                elif isinstance(row, ast.ImportFrom):
+                    bound.extend(alias.name for alias in row.names)
+            self.assertEqual(len(bound), len(set(bound)), name)
+
+    def test_statements(self):
+        allowed = (
+            ast.Assign, ast.AugAssign, ast.If, ast.While, ast.For, ast.Return, ast.Break, ast.Continue, ast.Raise, ast.Delete,
+            ast.Expr, ast.FunctionDef, ast.ClassDef, ast.ImportFrom,
+        )
+        for name, text, tree in files():
+            above = parents_of(tree)
+            for row in ast.walk(tree):
+                if isinstance(row, ast.stmt):
+                    self.assertIsInstance(row, allowed, (name, row.lineno))
+                if isinstance(row, ast.Delete):
+                    self.assertTrue(all(isinstance(target, ast.Subscript) for target in row.targets), (name, row.lineno))
+                if isinstance(row, ast.FunctionDef):
+                    self.assertIsInstance(above[row], (ast.Module, ast.ClassDef), (name, row.name))
+                    self.assertIsNone(row.args.vararg or row.args.kwarg or row.returns, (name, row.name))
+                    for given in row.args.defaults + row.args.kw_defaults:
+                        self.assertIsInstance(given, ast.Constant, (name, row.name))
+                if isinstance(row, ast.Expr):
+                    self.assertIsInstance(row.value, (ast.Call, ast.Constant), (name, row.lineno))
+                self.assertNotIsInstance(row, (ast.Starred, ast.NamedExpr, ast.Set), name)
+
+    def test_raised_on_the_spot(self):
+        refusals = {row.name for name, text, tree in files() for row in tree.body if isinstance(row, ast.ClassDef)}
+        for name, text, tree in files():
+            for row in ast.walk(tree):
+                if isinstance(row, ast.Raise):
+                    self.assertIsNone(row.cause, (name, row.lineno))
+                    self.assertIn(called(row.exc), refusals, (name, row.lineno))
+
+    def test_names_that_are_not_used(self):
+        for name, text, tree in files():
+            for row in ast.walk(tree):
+                for field in ("id", "attr", "arg", "name"):
+                    self.assertNotIn(getattr(row, field, None), NOWHERE, name)
+
+    def test_own_names_are_none_of_builtin_values(self):
+        taken = {word for kind in (str, int, list, tuple, dict, set, bytes) for word in dir(kind)} - SPECIAL
+        for name, text, tree in files():
+            for row in ast.walk(tree):
+                if isinstance(row, ast.ClassDef):
+                    for part in row.body:
+                        self.assertNotIn(getattr(part, "name", None), taken, (name, row.name))
+                if isinstance(row, ast.Attribute) and isinstance(row.ctx, ast.Store):
+                    self.assertNotIn(row.attr, taken, (name, row.lineno))
+
+    def test_iterated_on_the_spot(self):
+        for name, text, tree in files():
+            above = parents_of(tree)
+            for row in ast.walk(tree):
+                fresh = called(row) in AT_ONCE
+                if isinstance(row, ast.Call) and isinstance(row.func, ast.Attribute):
+                    fresh = row.func.attr in ("items", "keys", "values")
+                if fresh:
+                    over = above[row]
+                    if isinstance(over, ast.Call):
+                        self.assertIn(called(over), GOES_OVER, (name, row.lineno))
+                        self.assertTrue(over.args[0] is row or called(over) == "zip", (name, row.lineno))
+                    else:
+                        self.assertIsInstance(over, (ast.For, ast.comprehension), (name, row.lineno))
+                        self.assertIs(over.iter, row, (name, row.lineno))
+
+    def test_sets(self):
+        for name, text, tree in files():
+            above = parents_of(tree)
+            for row in ast.walk(tree):
+                self.assertNotEqual(called(row), "frozenset", name)
+                if called(row) == "set" or isinstance(row, ast.SetComp):
+                    self.assertIn(called(above[row]), ("sorted", "len"), (name, row.lineno))
+                    self.assertEqual(above[row].keywords, [], (name, row.lineno))
+
+    def test_calls(self):
+        for name, text, tree in files():
+            above = parents_of(tree)
+            for row in ast.walk(tree):
+                if isinstance(row, ast.Name) and row.id in BUILTINS:
+                    over = above[row]
+                    called_here = isinstance(over, ast.Call) and over.func is row
+                    kind = called(over) == "isinstance" or called(above.get(over)) == "isinstance"
+                    mark = isinstance(over, ast.FunctionDef) and row in over.decorator_list
+                    self.assertTrue(called_here or kind or mark, (name, row.lineno))
+                if isinstance(row, ast.Call):
+                    words = {given.arg for given in row.keywords}
+                    if called(row) in BUILTINS:
+                        self.assertLessEqual(words, KEYWORDS.get(called(row), set()), (name, row.lineno))
+                    elif isinstance(row.func, ast.Attribute) and row.func.attr in METHODS:
+                        self.assertEqual(words, set(), (name, row.lineno))
+
+    def test_attributes_are_stored_through_a_local_name(self):
+        for name, text, tree in files():
+            known = {row.name for row in tree.body if isinstance(row, (ast.FunctionDef, ast.ClassDef))}
+            for row in ast.walk(tree):
+                if isinstance(row, ast.Attribute) and isinstance(row.ctx, ast.Store):
+                    self.assertIsInstance(row.value, ast.Name, (name, row.lineno))
+                    self.assertNotIn(row.value.id, known, (name, row.lineno))
+
+    def test_texts_and_powers(self):
+        for name, text, tree in files():
+            self.assertNotIn("\\", text, name)
+            self.assertNotIn("\t", text, name)
+            for row in ast.walk(tree):
+                if isinstance(row, ast.BinOp) and isinstance(row.op, ast.Pow):
+                    self.assertIsInstance(row.right, ast.Constant, (name, row.lineno))
+                    self.assertIn(row.right.value, range(65), (name, row.lineno))
+                if isinstance(row, ast.Constant) and isinstance(row.value, str):
+                    self.assertNotIn("__", row.value, name)
+                if isinstance(row, ast.FormattedValue):
+                    self.assertIsNone(row.format_spec, (name, row.lineno))
+                    parts = [part for part in ast.walk(row.value) if isinstance(part, ast.Constant)]
+                    self.assertEqual([part for part in parts if isinstance(part.value, str)], [], (name, row.lineno))
+
+    def test_the_pythons_give_no_warning(self):
+        with warnings.catch_warnings():
+            warnings.simplefilter("error")
+            for name, text, tree in files():
+                compile(text, name, "exec")
 
 
 if __name__ == "__main__":

@@ -111,6 +111,8 @@ class Safe(Checked):
         for rows in (
             texts("rb1 wb2", "1 wb1 wk0", "1 rk0 rb2"), texts("rb1 wb2", "1 wb1 wk0", "11 rk0 wk1", "1 rk0 rb2"),
             texts("rb1 wb2", "1 wb1 wk0", "12 rk0 wk1", "2 rk0 rb2"), texts("1 rk0 wb2", "11 wk0 wk1", "111 rk0 wk1 rk2", "1 rk0 rb2"),
+            # Both runs have two keys of one table: the key that they share stands but once in each of them.
+            texts("rb1 wb2", "11 wb1 rk0 wk1", "11 rb2 rk0 rk1"),
         ):
             pool = Pool(rows, enough_keys(rows))
             for levels in all_levels(len(rows)):
